@@ -1,0 +1,1 @@
+"""Echopanes: panes that throw back part of each cry."""

@@ -1,0 +1,49 @@
+"""FRACTIONs: pairs (top, bottom) in lowest terms, bottom above 0, and their exact sums and products."""
+
+NOUGHT = (0, 1)
+ONE = (1, 1)
+
+
+def is_number(thing):
+    # True and False are Python's whole numbers, too, but not this program's.
+    return isinstance(thing, int) and not isinstance(thing, bool)
+
+
+def common_part(one, other):
+    """The greatest whole number that divides both; 0 of two noughts."""
+    while other:
+        one, other = other, one % other
+    return abs(one)
+
+
+def is_fraction(thing):
+    if not isinstance(thing, tuple) or len(thing) != 2:
+        return False
+    top, bottom = thing
+    if not is_number(top) or not is_number(bottom):
+        return False
+    return bottom > 0 and common_part(top, bottom) == 1
+
+
+def fraction(top, bottom):
+    """The FRACTION that is top by bottom; bottom is any number but 0."""
+    part = common_part(top, bottom)
+    if bottom < 0:
+        part = -part
+    return (top // part, bottom // part)
+
+
+def plus(one, other):
+    return fraction(one[0] * other[1] + other[0] * one[1], one[1] * other[1])
+
+
+def minus(one, other):
+    return fraction(one[0] * other[1] - other[0] * one[1], one[1] * other[1])
+
+
+def times(one, other):
+    return fraction(one[0] * other[0], one[1] * other[1])
+
+
+def over(one, other):
+    return fraction(one[0] * other[1], one[1] * other[0])
