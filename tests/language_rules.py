@@ -30,10 +30,7 @@ BUILTINS = {
     "len", "range", "enumerate", "zip", "min", "max", "sum", "abs", "sorted", "reversed", "int", "str", "bool",
     "list", "tuple", "dict", "isinstance", "repr", "any", "all", "divmod",
 }
-KEYWORDS = {
-    "sorted": {"key", "reverse"}, "min": {"key", "default"}, "max": {"key", "default"}, "sum": {"start"},
-    "enumerate": {"start"}, "zip": {"strict"},
-}
+KEYWORDS = {"sum": {"start"}, "enumerate": {"start"}}
 AT_ONCE = {"zip", "enumerate", "reversed", "range", "items", "keys", "values"}
 TAKE_AT_ONCE = {"list", "tuple", "dict", "sorted", "sum", "any", "all", "enumerate", "zip", "min", "max"}
 METHODS = set(
@@ -42,7 +39,7 @@ METHODS = set(
     " setdefault split splitlines startswith strip update upper values zfill bit_length".split()
 )
 MODIFY = {"append", "clear", "extend", "insert", "pop", "remove", "reverse", "setdefault", "update"}
-DOUBLE = {"__init__", "__eq__", "__repr__", "__str__", "__len__"}
+DOUBLE = {"__init__"}  # L28 asks more of the others than is checked here
 BARRED_NAMES = set(
     "register mro elements open input version_info with_traceback add_note attrgetter breakpoint builtins compile"
     " copyright credits delattr dir eval exec exit gc getattr globals hasattr help id importlib license locals"
@@ -233,8 +230,6 @@ class FileCheck:
         told = node.args
         if node.decorator_list or node.returns or told.posonlyargs or told.vararg or told.kwarg:
             self.fault("L4", node, "a decorator, an annotation or another kind of parameter")
-        if told.kwonlyargs and in_class and node.name != "__init__" and node.name in DOUBLE | METHODS:
-            self.fault("L4", node, "a parameter by name alone")
         for worth in told.defaults + told.kw_defaults:
             if worth is not None and not is_plain(worth):
                 self.fault("L4", node, "a default that is not plain")

@@ -44,6 +44,7 @@ AGAINST_A_RULE = [
     ("L26", "class Box:\n    def decode(self):\n        return 1\n"),
     ("L27", "X = 'a%b'\n"),
     ("L27", "X = '\\x41'\n"),
+    ("L12", "class Box:\n    def __hash__(self):\n        return 1\n"),
     ("L28", "class Box:\n    def __init__(self):\n        return None\n"),
 ]
 
