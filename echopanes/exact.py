@@ -47,3 +47,15 @@ def times(one, other):
 
 def over(one, other):
     return fraction(one[0] * other[1], one[1] * other[0])
+
+
+def is_more(one, other):
+    return one[0] * other[1] > other[0] * one[1]
+
+
+def squares_of(numbers):
+    """The squares of the FRACTIONs, together."""
+    total = NOUGHT
+    for number in numbers:
+        total = plus(total, times(number, number))
+    return total

@@ -39,7 +39,7 @@ METHODS = set(
     " setdefault split splitlines startswith strip update upper values zfill bit_length".split()
 )
 MODIFY = {"append", "clear", "extend", "insert", "pop", "remove", "reverse", "setdefault", "update"}
-DOUBLE = {"__init__"}  # L28 asks more of the others than is checked here
+DOUBLE = {"__init__", "__eq__", "__len__"}  # L28 asks more of the others than is checked here
 BARRED_NAMES = set(
     "register mro elements open input version_info with_traceback add_note attrgetter breakpoint builtins compile"
     " copyright credits delattr dir eval exec exit gc getattr globals hasattr help id importlib license locals"
@@ -78,6 +78,17 @@ def is_plain(node):
     return isinstance(node, ast.Constant)
 
 
+def fits(plain, told, call):
+    """Whether a call passes each parameter once, but for those with a default value."""
+    names = [part.arg for part in plain]
+    by_name = [part.arg for part in told.kwonlyargs]
+    passed = names[:len(call.args)] + [keyword.arg for keyword in call.keywords]
+    must = names[:len(names) - len(told.defaults)]
+    must += [name for name, worth in zip(by_name, told.kw_defaults) if worth is None]
+    right = len(call.args) <= len(names) and len(passed) == len(set(passed))
+    return right and set(passed) <= set(names + by_name) and set(must) <= set(passed)
+
+
 class Package:
     """What the files bind together: classes, methods, attributes, error classes, who imports whom."""
 
@@ -95,6 +106,23 @@ class Package:
             node.name for node in classes
             if any(isinstance(base, ast.Name) and base.id in ERRORS for base in node.bases)
         }
+
+    def defined(self, name, called):
+        """The function or class that is called so in a file, be it its own or imported; None where it is neither."""
+        for node in self.trees[name].body:
+            if isinstance(node, (ast.FunctionDef, ast.ClassDef)) and node.name == called:
+                return node
+            if isinstance(node, ast.ImportFrom) and called in [alias.name for alias in node.names]:
+                other = (node.module or "")[len(PACKAGE) + 1:]
+                return self.defined(other, called) if other in self.trees and other != name else None
+        return None
+
+    def methods_called(self, called):
+        classes = [node for node in self.nodes if isinstance(node, ast.ClassDef)]
+        return [
+            part for node in classes for part in node.body
+            if isinstance(part, ast.FunctionDef) and part.name == called
+        ]
 
     def imports(self, name):
         return [
@@ -233,8 +261,24 @@ class FileCheck:
         for worth in told.defaults + told.kw_defaults:
             if worth is not None and not is_plain(worth):
                 self.fault("L4", node, "a default that is not plain")
+        if node.name in ("__eq__", "__len__"):
+            self.check_short_method(node)
         if node.name == "__init__" and any(isinstance(part, ast.Return) and part.value for part in ast.walk(node)):
             self.fault("L28", node, "__init__ returns something")
+
+    def check_short_method(self, node):
+        """Stricter than L28: one return, as all that such a method may do beside it is not checked here."""
+        rows = node.body[1:] if is_docstring(node.body[0]) else node.body
+        if len(rows) != 1 or not isinstance(rows[0], ast.Return) or rows[0].value is None:
+            self.fault("L28", node, f"{node.name} is more than one return")
+            return
+        called = [part.func for part in ast.walk(rows[0]) if isinstance(part, ast.Call)]
+        if any(isinstance(part, ast.Attribute) and part.attr in MODIFY for part in called):
+            self.fault("L28", node, f"{node.name} changes something")
+        worth = rows[0].value
+        by_len = isinstance(worth, ast.Call) and isinstance(worth.func, ast.Name) and worth.func.id == "len"
+        if node.name == "__len__" and not by_len:
+            self.fault("L28", node, "__len__ returns something else than len(..)")
 
     def check_arg(self, node):
         self.check_name(node, node.arg)
@@ -327,6 +371,28 @@ class FileCheck:
             self.fault("L7", node, "a call of what is not a name or a method")
         if name in AT_ONCE - self.package.methods and not self.taken_at_once(node):
             self.fault("L23", node, f"{name} is not iterated at once")
+        if not self.passes_what_is_taken(node):
+            self.fault("L22", node, f"{name} is not passed what it takes")
+
+    def passes_what_is_taken(self, node):
+        """Whether a call of an own function, class or method fits; one of a method fits any class's of that name."""
+        if isinstance(node.func, ast.Name):
+            owner = self.package.defined(self.name, node.func.id)
+            if isinstance(owner, ast.FunctionDef):
+                return fits(owner.args.args, owner.args, node)
+            if isinstance(owner, ast.ClassDef):
+                return self.makes(owner, node)
+        elif isinstance(node.func, ast.Attribute) and node.func.attr in self.package.methods - DOUBLE - METHODS:
+            found = self.package.methods_called(node.func.attr)
+            return any(fits(method.args.args[1:], method.args, node) for method in found)
+        return True
+
+    def makes(self, owner, node):
+        made = [part for part in owner.body if isinstance(part, ast.FunctionDef) and part.name == "__init__"]
+        if made:
+            return fits(made[0].args.args[1:], made[0].args, node)
+        own_base = any(isinstance(base, ast.Name) and base.id in self.package.classes for base in owner.bases)
+        return own_base or not node.args and not node.keywords
 
     def taken_at_once(self, node):
         above = self.parents[node]
@@ -338,8 +404,20 @@ class FileCheck:
         )
 
     def check_For(self, node):
-        heads = {part.id for part in ast.walk(node.iter) if isinstance(part, ast.Name)}
-        for part in (part for row in node.body for part in ast.walk(row)):
+        self.check_iterated([node.iter], node.body)
+
+    def check_ListComp(self, node):
+        self.check_iterated([part.iter for part in node.generators], [node])
+
+    def check_DictComp(self, node):
+        self.check_iterated([part.iter for part in node.generators], [node])
+
+    def check_iterated(self, heads, rows):
+        named = {
+            ast.unparse(part) for head in heads for part in ast.walk(head)
+            if isinstance(part, (ast.Name, ast.Attribute))
+        }
+        for part in (part for row in rows for part in ast.walk(row)):
             changed = None
             if isinstance(part, ast.Call) and isinstance(part.func, ast.Attribute) and part.func.attr in MODIFY:
                 changed = part.func.value
@@ -347,8 +425,8 @@ class FileCheck:
                 changed = part.value
             elif isinstance(part, ast.AugAssign):
                 changed = part.target
-            if isinstance(changed, ast.Name) and changed.id in heads:
-                self.fault("L23", part, f"{changed.id} is changed in its own loop")
+            if changed is not None and ast.unparse(changed) in named:
+                self.fault("L23", part, f"{ast.unparse(changed)} is changed in its own loop")
 
     def check_Compare(self, node):
         for sign, other in zip(node.ops, node.comparators):

@@ -50,4 +50,6 @@ def kinds(thing):
     """The thing with the kind of each part beside it, so that True isn't taken for 1."""
     if isinstance(thing, (list, tuple)):
         return (type(thing), [kinds(part) for part in thing])
+    if isinstance(thing, dict):
+        return (type(thing), {key: kinds(thing[key]) for key in thing})
     return (type(thing), thing)

@@ -1,6 +1,8 @@
 import unittest
 
-from echopanes.exact import common_part, fraction, is_fraction, is_number, minus, over, plus, times
+from echopanes.exact import (
+    common_part, fraction, is_fraction, is_more, is_number, minus, over, plus, squares_of, times,
+)
 from sample_rows import as_fraction, as_pair, kinds
 
 NUMBERS = list(range(-13, 14)) + [60, -60, 10 ** 50, -(10 ** 50) + 1]
@@ -35,6 +37,17 @@ class Fractions(unittest.TestCase):
         self.assertEqual(common_part(0, 5), 5)
         self.assertEqual(common_part(-12, 18), 6)
         self.assertEqual(common_part(12, -18), 6)
+
+    def test_is_more(self):
+        for one in FRACTIONS:
+            for other in FRACTIONS:
+                self.assertIs(is_more(one, other), as_fraction(one) > as_fraction(other))
+
+    def test_squares_of(self):
+        self.assertEqual(squares_of([]), (0, 1))
+        for at in range(len(FRACTIONS)):
+            numbers = FRACTIONS[at:at + 3]
+            self.assertEqual(squares_of(numbers), as_pair(sum(as_fraction(number) ** 2 for number in numbers)))
 
     def test_is_number(self):
         for thing in (0, 1, -1, 10 ** 50):

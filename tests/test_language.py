@@ -37,6 +37,15 @@ AGAINST_A_RULE = [
     ("L21", "def f(x: int):\n    return x\n"),
     ("L22", "def f(x):\n    return int(x, base=2)\n"),
     ("L22", "def f(xs):\n    size = len\n    return size(xs)\n"),
+    ("L22", "from echopanes.base import given\n\n\ndef f():\n    return given(1)\n"),
+    ("L22", "from echopanes.base import Bad\n\n\ndef f():\n    raise Bad(why=1)\n"),
+    ("L22", "def f(a, *, b, c=1):\n    return a\n\n\ndef g():\n    return f(1, c=2)\n"),
+    ("L22", "def f(a, *, b, c=1):\n    return a\n\n\ndef g():\n    return f(1, b=1, a=2)\n"),
+    ("L22", "def f(a, *, b, c=1):\n    return a\n\n\ndef g():\n    return f(1, 2)\n"),
+    ("L22", "class Box:\n    def __init__(self, a):\n        self.a = a\n\n\ndef f():\n    return Box()\n"),
+    ("L22", "class Box:\n    def told(self, a=1):\n        return a\n\n    def f(self):\n        return self.told(1, 2)\n"),
+    ("L23", "class Box:\n    def f(self):\n        for x in self.xs:\n            self.xs.append(x)\n"),
+    ("L23", "def f(xs):\n    return [xs.pop() for x in xs]\n"),
     ("L23", "def f(xs):\n    ys = reversed(xs)\n    return list(ys)\n"),
     ("L23", "def f(xs):\n    for x in xs:\n        xs.append(x)\n"),
     ("L7", "def f(xs):\n    return {x for x in xs}\n"),
@@ -45,6 +54,9 @@ AGAINST_A_RULE = [
     ("L27", "X = 'a%b'\n"),
     ("L27", "X = '\\x41'\n"),
     ("L12", "class Box:\n    def __hash__(self):\n        return 1\n"),
+    ("L28", "class Box:\n    def __len__(self):\n        return self.many()\n"),
+    ("L28", "class Box:\n    def __len__(self):\n        many = 1\n        return len([many])\n"),
+    ("L28", "class Box:\n    def __eq__(self, other):\n        return self.xs.pop() == other\n"),
     ("L28", "class Box:\n    def __init__(self):\n        return None\n"),
 ]
 
@@ -76,6 +88,23 @@ class TheCheckItself(unittest.TestCase):
             found = source_faults({"base": BASE, "sample": source})
             named = [fault for fault in found if rule in fault.split(" ")[0].split("/")]
             self.assertTrue(named, (rule, source, found))
+
+    def test_right_calls_are_not_found(self):
+        source = (
+            "from echopanes.base import Bad, given\n\n\n"
+            "def f(a, *, b, c=1):\n    return a\n\n\n"
+            "class Box:\n"
+            "    def __init__(self, size, *, first=1):\n        self.size = [size, first]\n\n"
+            "    def told(self, many=1):\n        return many\n\n"
+            "    def __eq__(self, other):\n        return isinstance(other, Box) and self.size == other.size\n\n"
+            "    def __len__(self):\n        return len(self.size)\n\n\n"
+            "def g():\n"
+            "    box = Box(size=1)\n"
+            "    other = Box(1, first=2)\n"
+            "    if box == other:\n        raise Bad()\n"
+            "    return [given(), f(1, b=2), f(c=1, b=2, a=3), box.told(), box.told(2), box.told(many=3)]\n"
+        )
+        self.assertEqual(source_faults({"base": BASE, "sample": source}), [])
 
     def test_imports_in_a_ring_are_found(self):
         ring = {
