@@ -15,15 +15,11 @@ def heard_and_cried(row):
     return heard, cries
 
 
-def near_part(row, many):
-    """The row without what is too far behind to be heard among the first so many numbers."""
-    panes, wall = row
-    return (panes[:many], wall if len(panes) < many else 0)
-
-
 def echo(row, many):
     """The list of the first so many numbers of the row's echo."""
-    heard, cries = heard_and_cried(near_part(row, many))
+    panes, wall = row
+    # Whatever stands behind as many panes as numbers is not heard among these, so they may stand for a longer row.
+    heard, cries = heard_and_cried((panes[:many], wall))
     heard, cries = lowered(heard, cries)
     return quotient(heard, cries, many)
 
