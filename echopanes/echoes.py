@@ -2,17 +2,14 @@
 
 from echopanes.errors import NoCry, NoPane, Walled
 from echopanes.exact import NOUGHT
-from echopanes.series import ahead_of_pane, lowered, product, quotient, scaled
+from echopanes.series import ahead_of_panes, lowered, product, quotient, scaled
 
 
 def heard_and_cried(row):
     """Two lists of whole numbers, scaled alike: the cries ahead of the row by which just one comes out behind its
     last pane, or comes to its wall, and what is heard of them."""
     panes, wall = row
-    heard, cries = [wall], [1]
-    for pane in reversed(panes):
-        heard, cries = ahead_of_pane(pane, heard, cries)
-    return heard, cries
+    return ahead_of_panes(panes, [wall], [1])
 
 
 def echo(row, many):

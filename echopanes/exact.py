@@ -53,6 +53,14 @@ def is_more(one, other):
     return one[0] * other[1] > other[0] * one[1]
 
 
+def without_last_noughts(numbers):
+    """The list or tuple of FRACTIONs without the last ones that are 0."""
+    end = len(numbers)
+    while end > 0 and numbers[end - 1] == NOUGHT:
+        end -= 1
+    return numbers[:end]
+
+
 def squares_of(numbers):
     """The squares of the FRACTIONs, together."""
     total = NOUGHT

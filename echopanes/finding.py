@@ -4,7 +4,7 @@ from echopanes.echoes import echo
 from echopanes.errors import NoRow
 from echopanes.exact import NOUGHT, ONE, fraction, minus, times
 from echopanes.rows import is_pane, trimmed
-from echopanes.series import ahead_of_pane, behind_pane, lowered, scaled
+from echopanes.series import ahead_of_panes, behind_pane, heard_of_one, lowered
 
 
 def panes_ahead(echoes):
@@ -13,8 +13,7 @@ def panes_ahead(echoes):
     These two are lists of whole numbers, scaled alike.
     """
     panes = []
-    heard, bottom = scaled(echoes)
-    cries = [bottom] + [0] * len(heard)
+    heard, cries = heard_of_one(echoes)
     while len(heard) > 0:
         pane = fraction(heard[0], cries[0])
         if not is_pane(pane):
@@ -50,8 +49,7 @@ def paper_of_none(panes, heard, cries):
     # A wall throws the one back as it is, so all that is wrong is heard alone, at the last place.
     back = [wall * cry for cry in single]
     back[told] += heard[told] - wall * cries[told]
-    for pane in reversed(panes):
-        back, single = ahead_of_pane(pane, back, single)
+    heard, single = ahead_of_panes(panes, back, single)
     return [(cry, 1) for cry in lowered(single, [])[0]]
 
 

@@ -1,7 +1,7 @@
 """ROWs: pairs (panes, wall), the panes from the left to the right."""
 
 from echopanes.errors import Walled
-from echopanes.exact import NOUGHT, is_fraction, is_number, minus
+from echopanes.exact import NOUGHT, is_fraction, is_number, minus, without_last_noughts
 
 WALLS = (0, 1, -1)
 
@@ -26,10 +26,7 @@ def trimmed(row):
     panes, wall = row
     if wall != 0:
         return row
-    end = len(panes)
-    while end > 0 and panes[end - 1] == NOUGHT:
-        end -= 1
-    return (panes[:end], wall)
+    return (without_last_noughts(panes), wall)
 
 
 def mirrored(row):

@@ -27,6 +27,15 @@ def scaled(numbers):
     return wholes, bottom
 
 
+def heard_of_one(echoes):
+    """What is heard by this echo, and the single cry of which it is heard, as whole numbers scaled alike.
+
+    The list of cries is the longer one by one.
+    """
+    wholes, bottom = scaled(echoes)
+    return wholes, [bottom] + [0] * len(wholes)
+
+
 def lowered(one, other):
     """Both lists of whole numbers, not all of them 0, without the part common to all."""
     part = 0
@@ -68,6 +77,13 @@ def ahead_of_pane(pane, heard, cries):
     heard_ahead = [top * cry + bottom * late for cry, late in zip(now, later)]
     cries_ahead = [bottom * cry + top * late for cry, late in zip(now, later)]
     return heard_ahead, cries_ahead
+
+
+def ahead_of_panes(panes, heard, cries):
+    """What is heard and cried ahead of all these panes, scaled alike, as ahead_of_pane tells of one."""
+    for pane in reversed(panes):
+        heard, cries = ahead_of_pane(pane, heard, cries)
+    return heard, cries
 
 
 def behind_pane(pane, heard, cries):

@@ -2,7 +2,7 @@
 
 from echopanes.errors import NoPane, Walled
 from echopanes.exact import NOUGHT, minus, plus, squares_of, times
-from echopanes.rooms import rooms_of
+from echopanes.rooms import rooms_of, row_of
 
 
 def met(pane, a, b):
@@ -64,6 +64,11 @@ class Waves:
     def turn(self):
         """All that is on the way goes the other way about; cries that wait stay."""
         self.rightward, self.leftward = self.leftward, self.rightward
+
+    def take_weights(self, weights):
+        """The rooms are of these weights from now on; what is on the way stays as it is."""
+        self.weights = list(weights)
+        self.panes = row_of(weights)[0]
 
     def row(self):
         return (self.panes, self.wall)

@@ -78,6 +78,19 @@ def is_plain(node):
     return isinstance(node, ast.Constant)
 
 
+def is_simple(node):
+    """What L6 calls SIMPLE, without sums."""
+    if isinstance(node, ast.Attribute):
+        return is_simple(node.value)
+    if isinstance(node, (ast.Tuple, ast.List)):
+        return all(is_simple(part) for part in node.elts)
+    return isinstance(node, (ast.Name, ast.Constant))
+
+
+def names_read(node):
+    return {part.id for part in ast.walk(node) if isinstance(part, ast.Name) and isinstance(part.ctx, ast.Load)}
+
+
 def fits(plain, told, call):
     """Whether a call passes each parameter once, but for those with a default value."""
     names = [part.arg for part in plain]
@@ -448,8 +461,24 @@ class FileCheck:
             self.fault("L19", node, "not an error made on the spot")
 
     def check_Try(self, node):
-        if node.finalbody:
-            self.fault("L6", node, "a finally")
+        own = self.package.methods | self.package.attributes
+        for row in node.finalbody:
+            call = row.value if isinstance(row, ast.Expr) else None
+            if not isinstance(call, ast.Call) or not isinstance(call.func, ast.Attribute) or call.keywords:
+                self.fault("L6", row, "a finally that does more than to append")
+            elif call.func.attr != "append" or call.func.attr in own or not all(map(is_simple, call.args)):
+                self.fault("L6", row, "a finally that appends what is not simple")
+            elif not is_simple(call.func.value) or not names_read(row) <= self.assigned_ahead_of(node):
+                self.fault("L6", row, "a finally that reads what is not assigned ahead of its try")
+
+    def assigned_ahead_of(self, node):
+        """The parameters of the function around, and the names that stand alone for what is assigned ahead there."""
+        rows = self.parents[node]
+        if not isinstance(rows, ast.FunctionDef) or node not in rows.body:
+            return set()
+        ahead = [row for row in rows.body[:rows.body.index(node)] if isinstance(row, ast.Assign)]
+        assigned = {target.id for row in ahead for target in row.targets if isinstance(target, ast.Name)}
+        return assigned | {part.arg for part in rows.args.args + rows.args.kwonlyargs}
 
     def check_ExceptHandler(self, node):
         kinds = node.type.elts if isinstance(node.type, ast.Tuple) else [node.type]

@@ -2,6 +2,7 @@ import unittest
 
 from echopanes.exact import (
     common_part, fraction, is_fraction, is_more, is_number, minus, over, plus, squares_of, times,
+    without_last_noughts,
 )
 from sample_rows import as_fraction, as_pair, kinds
 
@@ -48,6 +49,13 @@ class Fractions(unittest.TestCase):
         for at in range(len(FRACTIONS)):
             numbers = FRACTIONS[at:at + 3]
             self.assertEqual(squares_of(numbers), as_pair(sum(as_fraction(number) ** 2 for number in numbers)))
+
+    def test_without_last_noughts(self):
+        for kind in (list, tuple):
+            for numbers in ([], [(1, 2)], [(0, 1), (1, 2)]):
+                for more in range(3):
+                    told = without_last_noughts(kind(numbers + [(0, 1)] * more))
+                    self.assertEqual(kinds(told), kinds(kind(numbers)))
 
     def test_is_number(self):
         for thing in (0, 1, -1, 10 ** 50):

@@ -16,6 +16,10 @@ AGAINST_A_RULE = [
     ("L5", "class Box:\n    many = []\n"),
     ("L5", "class Box(ValueError, LookupError):\n    pass\n"),
     ("L6", "def f():\n    global x\n    x = 1\n"),
+    ("L6", "def f(xs):\n    try:\n        return 1\n    finally:\n        return 2\n"),
+    ("L6", "def f(xs):\n    try:\n        return 1\n    finally:\n        xs.pop()\n"),
+    ("L6", "def f(xs):\n    try:\n        return 1\n    finally:\n        xs.append(len(xs))\n"),
+    ("L6", "def f(xs):\n    try:\n        y = 1\n    finally:\n        xs.append(y)\n"),
     ("L7", "def f(x):\n    return x / 2\n"),
     ("L7", "def f():\n    return 0.5\n"),
     ("L7", "def f(xs):\n    return any(x for x in xs)\n"),
@@ -103,6 +107,16 @@ class TheCheckItself(unittest.TestCase):
             "    other = Box(1, first=2)\n"
             "    if box == other:\n        raise Bad()\n"
             "    return [given(), f(1, b=2), f(c=1, b=2, a=3), box.told(), box.told(2), box.told(many=3)]\n"
+        )
+        self.assertEqual(source_faults({"base": BASE, "sample": source}), [])
+
+    def test_a_right_finally_is_not_found(self):
+        source = (
+            "class Box:\n"
+            "    def __init__(self):\n        self.seen = []\n\n"
+            "    def told(self, word):\n        first = word[0]\n"
+            "        try:\n            return first\n"
+            "        finally:\n            self.seen.append((\"out\", first, word))\n"
         )
         self.assertEqual(source_faults({"base": BASE, "sample": source}), [])
 

@@ -1,6 +1,6 @@
 import unittest
 
-from echopanes.series import ahead_of_pane, behind_pane, lowered, product, quotient, scaled
+from echopanes.series import ahead_of_pane, ahead_of_panes, behind_pane, heard_of_one, lowered, product, quotient, scaled
 from sample_rows import as_fraction, as_pair, kinds
 
 LISTS = [
@@ -51,6 +51,20 @@ class Series(unittest.TestCase):
                     told = quotient(together[:len(one)], together[len(one):], many)
                     padded = one[:many] + [(0, 1)] * (many - len(one))
                     self.assertEqual(kinds(plain_product(told, other, many)), kinds(padded))
+
+    def test_heard_of_one(self):
+        for numbers in LISTS:
+            heard, cries = heard_of_one(numbers)
+            self.assertEqual((heard, cries[0]), scaled(numbers))
+            self.assertEqual(cries[1:], [0] * len(numbers))
+
+    def test_ahead_of_several_panes(self):
+        for heard, cries in [([0], [1]), ([3, 5], [2, 0])]:
+            told = (heard, cries)
+            for pane in reversed(PANES):
+                told = ahead_of_pane(pane, told[0], told[1])
+            self.assertEqual(ahead_of_panes(PANES, heard, cries), told)
+            self.assertEqual(ahead_of_panes([], heard, cries), (heard, cries))
 
     def test_ahead_of_a_pane_and_behind_it(self):
         for pane in PANES:
