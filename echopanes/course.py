@@ -25,7 +25,7 @@ class Course:
             raise NoRoom(room)
         self.waiting[room] = weight
 
-    def beat(self, many=1):
+    def beat(self, many):
         """So many beats: the list of pairs (left, right) heard."""
         return [self.beat_once() for step in range(many)]
 

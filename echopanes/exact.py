@@ -34,15 +34,22 @@ def fraction(top, bottom):
 
 
 def plus(one, other):
-    return fraction(one[0] * other[1] + other[0] * one[1], one[1] * other[1])
+    # Parts that are known to be common are taken off first: to find one of great numbers takes longest.
+    part = common_part(one[1], other[1])
+    share = one[1] // part
+    top = one[0] * (other[1] // part) + other[0] * share
+    rest = common_part(top, part)
+    return (top // rest, share * (other[1] // rest))
 
 
 def minus(one, other):
-    return fraction(one[0] * other[1] - other[0] * one[1], one[1] * other[1])
+    return plus(one, (-other[0], other[1]))
 
 
 def times(one, other):
-    return fraction(one[0] * other[0], one[1] * other[1])
+    # Each is in lowest terms, so only one's top and the other's bottom can have a part in common.
+    part, rest = common_part(one[0], other[1]), common_part(other[0], one[1])
+    return ((one[0] // part) * (other[0] // rest), (one[1] // rest) * (other[1] // part))
 
 
 def over(one, other):

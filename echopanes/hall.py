@@ -4,17 +4,20 @@ from echopanes.course import Course
 from echopanes.errors import NoDeed
 
 
+def written_out(deed):
+    """The deed, a tuple of its word and its arguments, with beat's argument where that is left out."""
+    return ("beat", 1) if deed[0] == "beat" and len(deed) == 1 else tuple(deed)
+
+
 def done_on(course, deed):
-    """Does a deed, a tuple of its word and its arguments: told what it tells."""
+    """Does a deed that is written out: told what it tells."""
     word = deed[0]
     if word == "cry":
         return course.cry(deed[1], deed[2])
     if word == "change":
         return course.change(deed[1], deed[2])
-    if word == "beat" and len(deed) > 1:
-        return course.beat(deed[1])
     if word == "beat":
-        return course.beat()
+        return course.beat(deed[1])
     return course.turn()
 
 
@@ -49,7 +52,7 @@ class Hall:
         """Does the deeds as one: the list of what they tell."""
         self.entries.append(("in", "do"))
         try:
-            return self.do_together([tuple(deed) for deed in deeds])
+            return self.do_together([written_out(deed) for deed in deeds])
         finally:
             self.entries.append(("out", "do"))
 
@@ -124,6 +127,14 @@ class Hall:
     def log(self):
         """The list of ("in", word) and ("out", word) of all deeds begun and ended."""
         return list(self.entries)
+
+    def steps(self):
+        """The list of all single deeds that stand, written out."""
+        return [deed for steps in self.kept for deed in steps]
+
+    def still_waves(self):
+        """Waves of their own in the rooms as they were at first."""
+        return self.courses[0].waves.twin()
 
     def __eq__(self, other):
         return isinstance(other, Hall) and self.courses[-1].compared() == other.courses[-1].compared()

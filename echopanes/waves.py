@@ -11,6 +11,15 @@ def met(pane, a, b):
     return (plus(b, thrown), plus(a, thrown))
 
 
+def leaves_of(row, comes):
+    """Of each pane of the row, and of its wall, the pair of what leaves it of the pair that comes."""
+    panes, wall = row
+    leaves = [met(pane, a, b) for pane, (a, b) in zip(panes, comes)]
+    if wall != 0:
+        leaves.append((times((wall, 1), comes[-1][0]), NOUGHT))
+    return leaves
+
+
 class Waves:
     """A row and what is on the way in it, at first nothing."""
 
@@ -42,7 +51,10 @@ class Waves:
         return [self.beat_once() for step in range(many)]
 
     def beat_once(self):
-        leaves = self.all_met()
+        return self.send(self.all_met())
+
+    def send(self, leaves):
+        """All that leaves is on the way from now on: the pair (left, right) of what is heard of it."""
         self.rightward = [right for left, right in leaves[:-1]]
         self.leftward = [left for left, right in leaves[1:]]
         self.left_cry = NOUGHT
@@ -52,14 +64,13 @@ class Waves:
         self.heard_right.append(heard[1])
         return heard
 
+    def comes(self):
+        """Of each pane, and of the wall, the pair of what comes to it next from the left, from the right."""
+        return list(zip([self.left_cry] + self.rightward, self.leftward + [self.right_cry]))
+
     def all_met(self):
         """Of each pane, and of the wall, the pair of what leaves it of all that comes."""
-        from_left = [self.left_cry] + self.rightward
-        from_right = self.leftward + [self.right_cry]
-        leaves = [met(pane, a, b) for pane, a, b in zip(self.panes, from_left, from_right)]
-        if self.wall != 0:
-            leaves.append((times((self.wall, 1), from_left[-1]), NOUGHT))
-        return leaves
+        return leaves_of(self.row(), self.comes())
 
     def turn(self):
         """All that is on the way goes the other way about; cries that wait stay."""

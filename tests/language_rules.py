@@ -36,7 +36,8 @@ TAKE_AT_ONCE = {"list", "tuple", "dict", "sorted", "sum", "any", "all", "enumera
 METHODS = set(
     "append clear copy count endswith extend find get index insert isalnum isalpha isdigit islower isspace isupper"
     " items join keys ljust lower lstrip partition pop remove replace reverse rfind rjust rpartition rsplit rstrip"
-    " setdefault split splitlines startswith strip update upper values zfill bit_length".split()
+    " setdefault split splitlines startswith strip update upper values zfill bit_length"
+    " removeprefix".split()  # the last row is of L25's additional ones
 )
 MODIFY = {"append", "clear", "extend", "insert", "pop", "remove", "reverse", "setdefault", "update"}
 DOUBLE = {"__init__", "__eq__", "__len__"}  # L28 asks more of the others than is checked here

@@ -119,3 +119,44 @@ class PlainHall:
             "on_way": course.on_way(), "left": course.heard("left"), "right": course.heard("right"),
             "beats": course.beats(), "ledger": course.ledger(), "deeds": len(self.stands), "log": list(self.told_log),
         }
+
+
+def single_steps(stands):
+    """The deeds that stand one by one, each beat by itself."""
+    for deeds in stands:
+        for word, *parts in deeds:
+            if word == "beat":
+                yield from [("beat",)] * (parts[0] if parts else 1)
+            else:
+                yield (word, *parts)
+
+
+def plain_run(plain, steps):
+    """The course of a hall's first rooms through other steps."""
+    course = PlainCourse(plain.first, plain.wall)
+    for word, *parts in steps:
+        getattr(course, word)(*parts)
+    return course
+
+
+def plain_told_late(plain, beat, side, size):
+    steps, beats = [], 0
+    for step in single_steps(plain.stands):
+        if step[0] == "beat":
+            beats += 1
+            if beats == beat:
+                steps.append(("cry", side, size))
+        steps.append(step)
+    course = plain_run(plain, steps)
+    return (course.heard("left"), course.heard("right"))
+
+
+def plain_parts(plain):
+    told, steps = [], list(single_steps(plain.stands))
+    for at, step in enumerate(steps):
+        if step[0] == "cry" and ("beat",) in steps[at:]:
+            alone = [other for k, other in enumerate(steps) if k == at or other[0] != "cry"]
+            course = plain_run(plain, alone)
+            beat = sum(other[0] == "beat" for other in steps[:at]) + 1
+            told.append((beat, step[1], (course.heard("left"), course.heard("right"))))
+    return told

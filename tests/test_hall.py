@@ -1,4 +1,5 @@
 import unittest
+from fractions import Fraction
 
 from echopanes.errors import NoPane, NoRoom, Walled
 from echopanes.hall import Hall
@@ -118,7 +119,7 @@ class Deeds(unittest.TestCase):
         for rooms, wall in LONG_HALLS:
             hall, plain = Hall(rooms, wall=wall), PlainHall(rooms, wall)
             for at in range(20):
-                for deed in [("cry", "left", (60, 59 - at)), ("change", at % 13, WEIGHTS[at % 7]), ("beat", 2)]:
+                for deed in [("cry", "left", as_pair(Fraction(60, 59 - at))), ("change", at % 13, WEIGHTS[at % 7]), ("beat", 2)]:
                     do_deed(hall, deed)
                     plain.stands.append([deed])
                 self.assertTrue(is_even(hall.ledger()))
